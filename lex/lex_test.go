@@ -271,13 +271,14 @@ func TestP5_2_Names(t *testing.T) {
 			t.Errorf("IsName(%q) = %v", s, !want)
 		}
 	}
-	// The name of a token is not longer than a source.
-	for n := api.MaxSource - 1; n <= api.MaxSource+1; n++ {
-		if lex.IsName(strings.Repeat("n", n)) != (n <= api.MaxSource) {
+	// That a text is too long for a source is Lex's error alone.
+	for _, n := range []int{api.MaxSource - 1, api.MaxSource, api.MaxSource + 1, 1 << 20} {
+		long := strings.Repeat("n", n)
+		if !lex.IsName(long) || lex.IsName(long+"-") || lex.IsName("N"+long) || lex.IsWord(long) {
 			t.Errorf("%d bytes", n)
 		}
 	}
-	if lex.IsName(strings.Repeat("n", 1<<20)) || lex.IsWord(strings.Repeat("let", 1<<20)) {
+	if lex.IsWord(strings.Repeat("let", 1<<20)) {
 		t.Error("a long text")
 	}
 }
